@@ -22,18 +22,17 @@ func (c *course) join(a api.Act) api.Errno {
 	}
 	comer := api.Server{No: a.No, Secret: a.Data}
 	if alone == api.OK {
-		comer = given(comer, c.server(owner.No), chord.Members(o))
+		comer = given(comer, a.Id, c.server(owner.No), chord.Members(o))
 	}
 	c.Overlay = o
 	c.Servers = placed(c.Servers, comer, serverNo)
 	return api.OK
 }
 
-// given is a server that came, with the triggers that the one that had them gives it. All may be, and so no step can fail.
-func given(comer api.Server, giver *api.Server, all []api.Member) api.Server {
+// given is a server that came at an identifier, with the triggers that the one that had them gives it. All may be, and so no step can fail.
+func given(comer api.Server, id api.Id, giver *api.Server, all []api.Member) api.Server {
 	ahead, _ := ring.Before(all, comer.No)
-	self := all[slices.IndexFunc(all, func(m api.Member) bool { return m.No == comer.No })]
-	left, gift, _ := server.Give(*giver, ahead.Id, self.Id)
+	left, gift, _ := server.Give(*giver, ahead.Id, id)
 	*giver = left
 	comer, _, _ = server.Hand(comer, gift)
 	return comer
